@@ -1,0 +1,1 @@
+"""Quorumdrift: three replicas of one list, read pair by pair by majority."""

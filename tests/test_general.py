@@ -1,0 +1,161 @@
+"""Point 3: copies of lists, arguments that stay as they were, comparisons that raise no error."""
+
+import copy
+import unittest
+
+from quorumdrift.lists import check_list, differing_pairs, straight_swaps, swap_at
+from quorumdrift.readings import Reading, read
+from quorumdrift.relations import Relation
+from quorumdrift.states import State
+from tests.helpers import DriftCase
+
+CHAIN = ([3, 1, 2], [(3, 1), (1, 2)])
+CIRCLE = ([3, 1, 2], [(3, 1), (1, 2), (2, 3)])
+
+
+def spoil(result):
+    """Change a returned list and the lists in it in every way that could show."""
+    for part in result:
+        if isinstance(part, list):
+            part.reverse()
+            part.append(77)
+    result.reverse()
+    result.append(88)
+
+
+class HandedInTest(DriftCase):
+    def test_a_relation_copies_its_lists(self):
+        keys, pairs = copy.deepcopy(CHAIN)
+        relation = Relation(keys, pairs)
+        keys.append(9)
+        keys[0] = 8
+        pairs.append((2, 3))
+        pairs[0] = (2, 2)
+        self.assertEqual(relation, Relation(*CHAIN))
+        self.assertEqual(relation.path(3, 2), [3, 1, 2])
+        self.assertTrue(relation.keeps([3, 1, 2]))
+        self.assertEqual((-relation).closed(), (-Relation(*CHAIN)).closed())
+        self.assertEqual((relation + relation).closed(), Relation(*CHAIN).closed())
+
+    def test_a_reading_copies_its_lists(self):
+        keys, pairs = copy.deepcopy(CIRCLE)
+        reading = Reading(keys, pairs)
+        keys.clear()
+        pairs.clear()
+        self.assertEqual(reading, Reading(*CIRCLE))
+        self.assertEqual(reading.cycles(), [(1, 2, 3)])
+
+    def test_a_state_copies_its_lists(self):
+        for make in (State, State.of):
+            lists = [[1, 2], [2, 1], [1, 2]]
+            state = make(*lists)
+            for order in lists:
+                order.reverse()
+                order.append(3)
+            self.assertEqual(state.lists(), [[1, 2], [2, 1], [1, 2]])
+
+    def test_the_three_equal_lists_are_three(self):
+        order = [1, 2]
+        state = State.same(order)
+        order.append(3)
+        self.assertEqual(state.lists(), [[1, 2]] * 3)
+        lists = state.lists()
+        lists[0].append(4)
+        self.assertEqual(lists, [[1, 2, 4], [1, 2], [1, 2]])
+
+    def test_with_list_copies_the_list(self):
+        order = [2, 1]
+        state = State.same([1, 2]).with_list(1, order)
+        order.reverse()
+        self.assertEqual(state.lists(), [[1, 2], [2, 1], [1, 2]])
+
+    def test_arguments_stay_as_they_were(self):
+        first, second = [4, 2, 3, 1], [1, 2, 3, 4]
+        pairs = [(4, 2), (4, 2), (2, 1)]
+        tournament = [(4, 3), (3, 2), (2, 1), (4, 2), (1, 4), (3, 1)]
+        relation, reading = Relation(first, pairs), Reading(first, tournament)
+        state = State(first, second, first)
+        check_list(first)
+        swap_at(first, 1)
+        differing_pairs(first, second)
+        straight_swaps(first, second)
+        for action in (relation.keeps, relation.rank, reading.accepts):
+            action(first)
+        State.of(first, second, first)
+        State.same(first)
+        state.with_list(0, second)
+        read(state)
+        self.assertEqual((first, second), ([4, 2, 3, 1], [1, 2, 3, 4]))
+        self.assertEqual(pairs, [(4, 2), (4, 2), (2, 1)])
+        self.assertEqual(tournament, [(4, 3), (3, 2), (2, 1), (4, 2), (1, 4), (3, 1)])
+        self.assertEqual(state.lists(), [first, second, first])
+
+
+class HandedOutTest(DriftCase):
+    def check(self, make, questions):
+        """Each answer can be changed, and each question then has the same answers as before."""
+        thing = make()
+        expected = [question(make()) for question in questions]
+        for question in questions:
+            spoil(question(thing))
+            self.assertEqual([ask(thing) for ask in questions], expected)
+
+    def test_relations(self):
+        self.check(lambda: Relation(*CHAIN), [
+            Relation.all_keys, Relation.closed, Relation.least_order,
+            lambda relation: relation.path(3, 2),
+            lambda relation: relation.order_at(0),
+            lambda relation: list(relation.each_order()),
+        ])
+        self.check(lambda: Relation(*CIRCLE), [
+            Relation.all_keys, Relation.closed, Relation.cycle,
+            lambda relation: relation.path(3, 3),
+        ])
+
+    def test_states(self):
+        self.check(lambda: State([1, 2, 3], [2, 3, 1], [3, 1, 2]), [
+            State.lists, State.all_keys,
+            lambda state: state.list_of(0),
+            lambda state: state.list_of(2),
+            lambda state: (-state).lists(),
+            lambda state: (state - 2).lists(),
+            lambda state: (state + State([], [], [])).lists(),
+        ])
+
+    def test_readings(self):
+        questions = [
+            Reading.all_keys, Reading.pairs, Reading.cycles, Reading.pinned, Reading.free, Reading.components,
+            lambda reading: list(reading.each_path()),
+        ]
+        self.check(lambda: Reading(*CIRCLE), questions)
+        self.check(lambda: Reading([1, 2], [(2, 1)]), questions + [Reading.order])
+
+    def test_results_of_functions_on_lists_are_new(self):
+        order = [1, 2, 3]
+        spoil(swap_at(order, 0))
+        spoil(differing_pairs(order, order))
+        spoil(straight_swaps(order, order))
+        self.assertEqual(order, [1, 2, 3])
+
+    def test_kinds_of_results(self):
+        relation, reading = Relation(*CHAIN), Reading(*CIRCLE)
+        for result in (relation.closed(), relation.path(3, 2), relation.order_at(0), reading.pairs(),
+                       reading.cycles(), reading.components(), reading.components()[0],
+                       swap_at([1, 2], 0), differing_pairs([1, 2], [2, 1]), State.same([1]).lists()):
+            self.assertIs(type(result), list)
+        for result in (relation.closed()[0], relation.span(1), reading.pairs()[0], reading.cycles()[0],
+                       reading.pinned()[0], differing_pairs([1, 2], [2, 1])[0]):
+            self.assertIs(type(result), tuple)
+
+
+class ComparisonTest(DriftCase):
+    def test_objects_of_unlike_kinds_are_unequal(self):
+        things = [Relation([], []), Reading([], []), State([], [], []), [], None, "", 0]
+        for place, thing in enumerate(things):
+            for other_place, other in enumerate(things):
+                self.assertIs(thing == other, place == other_place)
+                self.assertIs(thing != other, place != other_place)
+
+
+if __name__ == "__main__":
+    unittest.main()

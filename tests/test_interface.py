@@ -1,0 +1,78 @@
+"""The names of the interface: where they are defined, and with which arguments."""
+
+import inspect
+import unittest
+
+from quorumdrift import errors, lists, readings, relations, states
+
+FUNCTIONS = {
+    lists: {
+        "check_list": ["order"],
+        "swap_at": ["order", "index"],
+        "differing_pairs": ["first", "second"],
+        "straight_swaps": ["first", "second"],
+    },
+    readings: {"read": ["state"]},
+}
+
+CLASSES = {
+    relations.Relation: {
+        "__init__": ["all_keys", "pairs"],
+        "all_keys": [], "closed": [], "implies": ["x", "y"], "path": ["x", "y"], "cycle": [],
+        "keeps": ["order"], "order_count": [], "each_order": [], "least_order": [],
+        "rank": ["order"], "order_at": ["rank"], "span": ["key"],
+        "__add__": None, "__neg__": None, "__contains__": None, "__len__": None, "__eq__": None,
+    },
+    states.State: {
+        "__init__": ["first", "second", "third"],
+        "of": ["orders"], "same": ["order"], "read": ["text"],
+        "list_of": ["replica"], "lists": [], "all_keys": [], "says": ["replica", "x", "y"],
+        "position": ["replica", "key"], "with_list": ["replica", "order"],
+        "__eq__": None, "__len__": None, "__contains__": None, "__add__": None, "__sub__": None,
+        "__neg__": None, "__str__": None,
+    },
+    readings.Reading: {
+        "__init__": ["all_keys", "pairs"],
+        "all_keys": [], "before": ["x", "y"], "pairs": [], "order": [], "cycles": [], "pinned": [], "free": [],
+        "components": [], "accepts": ["order"], "each_path": [],
+        "__eq__": None, "__len__": None, "__contains__": None, "__neg__": None, "__sub__": None,
+    },
+}
+
+
+class InterfaceTest(unittest.TestCase):
+    def test_functions(self):
+        for module, functions in FUNCTIONS.items():
+            for name, arguments in functions.items():
+                with self.subTest(name):
+                    function = getattr(module, name)
+                    self.assertEqual(function.__module__, module.__name__)
+                    self.assertEqual(list(inspect.signature(function).parameters), arguments)
+
+    def test_methods_are_defined_in_their_own_class(self):
+        for owner, methods in CLASSES.items():
+            for name, arguments in methods.items():
+                with self.subTest(owner=owner, name=name):
+                    self.assertIn(name, vars(owner))
+                    if arguments is not None:
+                        found = list(inspect.signature(getattr(owner, name)).parameters)
+                        self.assertEqual([one for one in found if one != "self"], arguments)
+
+    def test_classes_are_defined_in_their_own_file(self):
+        self.assertEqual(relations.Relation.__module__, "quorumdrift.relations")
+        self.assertEqual(states.State.__module__, "quorumdrift.states")
+        self.assertEqual(readings.Reading.__module__, "quorumdrift.readings")
+        for name, value in vars(errors).items():
+            if isinstance(value, type):
+                self.assertEqual(value.__module__, "quorumdrift.errors", name)
+
+    def test_kinds_of_methods(self):
+        self.assertIsInstance(vars(states.State)["of"], classmethod)
+        self.assertIsInstance(vars(states.State)["read"], classmethod)
+        self.assertIsInstance(vars(states.State)["same"], staticmethod)
+        self.assertTrue(inspect.isgeneratorfunction(relations.Relation.each_order))
+        self.assertTrue(inspect.isgeneratorfunction(readings.Reading.each_path))
+
+
+if __name__ == "__main__":
+    unittest.main()
