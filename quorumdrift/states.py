@@ -103,6 +103,12 @@ def check_replica(replica):
         raise UnknownReplica(replica)
 
 
+def check_replicas(replicas):
+    """Raise UnknownReplica for the first number that is not the number of a replica."""
+    for replica in replicas:
+        check_replica(replica)
+
+
 def is_list_of(all_keys, order):
     """True if the order is a replica list of the keys, which are given ascending."""
     return first_wrong_place(order) is None and sorted(order) == all_keys

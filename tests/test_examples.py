@@ -4,22 +4,55 @@ import doctest
 import pathlib
 import unittest
 
+from quorumdrift.dissents import dealing
+from quorumdrift.errors import AudibleSwap
+from quorumdrift.forced import forced_dissents
 from quorumdrift.readings import Reading, read
 from quorumdrift.relations import Relation
+from quorumdrift.runs import Run, first_fault, play
+from quorumdrift.settling import settle_run
 from quorumdrift.states import State
+from quorumdrift.swaps import apply_swap, barred_by, silent_swaps
+from tests.helpers import DriftCase
 
 README = pathlib.Path(__file__).resolve().parent.parent / "README.md"
 
 
-class DocumentTest(unittest.TestCase):
+class DocumentTest(DriftCase):
     def test_relation(self):
         relation = Relation([1, 2, 3, 4], [(1, 2), (2, 3), (1, 3), (3, 4)])
         self.assertEqual([relation.path(1, 4), relation.span(2), relation.order_count()], [[1, 3, 4], (1, 1), 1])
 
-    def test_cycles_of_the_state_under_dissents(self):
+    def test_dissents(self):
         state = State([2, 4, 3, 1], [3, 1, 2, 4], [1, 4, 3, 2])
-        self.assertEqual(read(state).cycles(), [(1, 4, 3), (2, 4, 3)])
+        self.assertEqual(
+            [read(state).cycles(), dealing(state)],
+            [[(1, 4, 3), (2, 4, 3)], [(1, 4, 0), (2, 4, 2), (3, 1, 2), (3, 2, 0), (4, 3, 1)]],
+        )
         self.assertEqual(read(state).pinned(), [(1, 4), (2, 4), (3, 1), (3, 2), (4, 3)])
+
+    def test_forced(self):
+        state = State([2, 4, 3, 1], [3, 1, 2, 4], [1, 4, 3, 2])
+        self.assertEqual(forced_dissents(state, 0), [(1, 2, [2, 3, 1])])
+
+    def test_swaps(self):
+        self.assertEqual(barred_by(State([1, 2], [2, 1], [1, 2]), (0, 0)), 1)
+        self.assert_raises(AudibleSwap, {"step": 0}, apply_swap, State([1, 2], [2, 1], [1, 2]), (0, 0))
+
+    def test_settling(self):
+        self.assertEqual(str(settle_run(State([2, 1, 3], [1, 2, 3], [1, 3, 2]))), "0.0 2.1")
+
+    def test_run_under_distances(self):
+        start = State([4, 1, 2, 5, 6, 7, 3], [1, 3, 6, 2, 4, 5, 7], [2, 3, 5, 1, 7, 4, 6])
+        goal = State([2, 4, 1, 7, 3, 5, 6], [1, 3, 4, 6, 2, 5, 7], [5, 1, 2, 3, 6, 7, 4])
+        run = Run.read("2.4 2.5 0.4 0.5 0.3 0.4 2.1 2.2 2.0 2.1 0.1 0.0 1.3 1.2 2.4 2.5")
+        self.assertEqual((play(start, run), play(goal, -run), len(run)), (goal, start, 16))
+        self.assertIsNone(first_fault(start, run))
+
+    def test_cluster_state_by_a_swap(self):
+        state = State.same([1, 2, 3])
+        self.assertIn((1, 0), silent_swaps(state))
+        self.assertEqual(str(apply_swap(state, (1, 0))), "1 2 3 / 2 1 3 / 1 2 3")
 
     def test_reading_under_rebuilding(self):
         reading = Reading([1, 2, 3], [(1, 2), (2, 3), (3, 1)])

@@ -3,24 +3,32 @@
 import copy
 import unittest
 
+from quorumdrift.dissents import dealing, dissenter, dissents
+from quorumdrift.forced import closed_home, forced_dissents, voluntary_dissents, word_relation
 from quorumdrift.lists import check_list, differing_pairs, straight_swaps, swap_at
+from quorumdrift.moves import apply_move, can_move, can_rewrite, expand_move, expand_rewrite, rewrite
 from quorumdrift.readings import Reading, read
 from quorumdrift.relations import Relation
+from quorumdrift.runs import Run, each_state, first_fault, play, swapped_pairs
+from quorumdrift.settling import homeward, is_settled, settle, settle_length, settle_run
 from quorumdrift.states import State
+from quorumdrift.swaps import apply_swap, barred_by, is_silent, silent_swaps, swap_pair
 from tests.helpers import DriftCase
 
 CHAIN = ([3, 1, 2], [(3, 1), (1, 2)])
 CIRCLE = ([3, 1, 2], [(3, 1), (1, 2), (2, 3)])
+# Its first replica has a forced dissent and, with 5 and 6 turned, a voluntary one.
+LISTS = [[2, 4, 3, 1, 6, 5], [3, 1, 2, 4, 5, 6], [1, 4, 3, 2, 5, 6]]
 
 
 def spoil(result):
-    """Change a returned list and the lists in it in every way that could show."""
+    """Change a returned list and the lists in it, also those in its tuples, in every way that could show."""
     for part in result:
-        if isinstance(part, list):
-            part.reverse()
-            part.append(77)
-    result.reverse()
-    result.append(88)
+        if isinstance(part, (list, tuple)):
+            spoil(part)
+    if isinstance(result, list):
+        result.reverse()
+        result.append(88)
 
 
 class HandedInTest(DriftCase):
@@ -68,6 +76,39 @@ class HandedInTest(DriftCase):
         state = State.same([1, 2]).with_list(1, order)
         order.reverse()
         self.assertEqual(state.lists(), [[1, 2], [2, 1], [1, 2]])
+
+    def test_a_run_copies_its_list(self):
+        swaps = [(0, 0), (1, 1)]
+        runs = [Run(swaps), Run.of(*swaps), Run(swaps) + Run([]), Run(swaps) * 1, -(-Run(swaps))]
+        swaps.reverse()
+        swaps.append((2, 2))
+        for run in runs:
+            self.assertEqual((run.steps(), len(run), str(run)), ([(0, 0), (1, 1)], 2, "0.0 1.1"))
+
+    def test_functions_of_a_state_leave_it_as_it_was(self):
+        state = State(*LISTS)
+        order, replicas, picks = [2, 4, 3, 1, 5, 6], [0, 0], [1]
+        run = Run([(0, 4), (1, 4), (1, 4)])
+        actions = [dealing, silent_swaps, homeward, is_settled, settle_run, settle, settle_length, closed_home]
+        calls = [lambda action=action: action(state) for action in actions]
+        for action in (dissents, word_relation, forced_dissents, voluntary_dissents):
+            calls.append(lambda action=action: action(state, 0))
+        for action in (swap_pair, is_silent, barred_by, apply_swap):
+            calls.append(lambda action=action: action(state, (0, 4)))
+        for action in (play, first_fault, swapped_pairs):
+            calls.append(lambda action=action: action(state, run))
+        for action in (expand_move, apply_move, can_move):
+            calls.append(lambda action=action: action(state, (0, 4, 5, 6)))
+        for action in (expand_rewrite, rewrite, can_rewrite):
+            calls.append(lambda action=action: action(state, 0, order))
+        calls.append(lambda: dissenter(state, 1, 2))
+        calls.append(lambda: list(each_state(state, run)))
+        calls.append(lambda: settle_run(state, replicas=replicas, picks=picks))
+        for call in calls:
+            call()
+            self.assertEqual(state.lists(), LISTS)
+            self.assertEqual(run.steps(), [(0, 4), (1, 4), (1, 4)])
+            self.assertEqual((order, replicas, picks), ([2, 4, 3, 1, 5, 6], [0, 0], [1]))
 
     def test_arguments_stay_as_they_were(self):
         first, second = [4, 2, 3, 1], [1, 2, 3, 4]
@@ -130,6 +171,42 @@ class HandedOutTest(DriftCase):
         self.check(lambda: Reading(*CIRCLE), questions)
         self.check(lambda: Reading([1, 2], [(2, 1)]), questions + [Reading.order])
 
+    def test_runs(self):
+        self.check(lambda: Run([(0, 1), (2, 0), (0, 0)]), [
+            Run.steps,
+            lambda run: run.only(0).steps(),
+            lambda run: (-run).steps(),
+            lambda run: (run + run).steps(),
+            lambda run: (run * 1).steps(),
+        ])
+
+    def test_functions_of_states(self):
+        self.check(lambda: State(*LISTS), [
+            dealing, silent_swaps, homeward,
+            lambda state: dissents(state, 0),
+            lambda state: forced_dissents(state, 0),
+            lambda state: voluntary_dissents(state, 0),
+            lambda state: word_relation(state, 0).closed(),
+            lambda state: closed_home(state).lists(),
+            lambda state: settle(state).lists(),
+            lambda state: settle_run(state).steps(),
+            lambda state: swapped_pairs(state, Run.of((0, 4))),
+            lambda state: expand_move(state, (0, 4, 5, 6)).steps(),
+            lambda state: rewrite(state, 0, LISTS[0]).lists(),
+            lambda state: next(each_state(state, Run([]))).lists(),
+        ])
+        self.assertEqual(LISTS[0], [2, 4, 3, 1, 6, 5])
+
+    def test_yielded_states_do_not_hang_together(self):
+        state = State(*LISTS)
+        run = Run.of((0, 4), (1, 4))
+        expected = [now.lists() for now in each_state(state, run)]
+        found = []
+        for now in each_state(state, run):
+            found.append(now.lists())
+            spoil(now.lists())
+        self.assertEqual(found, expected)
+
     def test_results_of_functions_on_lists_are_new(self):
         order = [1, 2, 3]
         spoil(swap_at(order, 0))
@@ -150,7 +227,7 @@ class HandedOutTest(DriftCase):
 
 class ComparisonTest(DriftCase):
     def test_objects_of_unlike_kinds_are_unequal(self):
-        things = [Relation([], []), Reading([], []), State([], [], []), [], None, "", 0]
+        things = [Relation([], []), Reading([], []), State([], [], []), Run([]), [], None, "", 0]
         for place, thing in enumerate(things):
             for other_place, other in enumerate(things):
                 self.assertIs(thing == other, place == other_place)

@@ -3,7 +3,7 @@
 import inspect
 import unittest
 
-from quorumdrift import errors, lists, readings, relations, states
+from quorumdrift import dissents, errors, forced, lists, moves, readings, relations, runs, settling, states, swaps
 
 FUNCTIONS = {
     lists: {
@@ -13,6 +13,48 @@ FUNCTIONS = {
         "straight_swaps": ["first", "second"],
     },
     readings: {"read": ["state"]},
+    dissents: {"dissenter": ["state", "x", "y"], "dissents": ["state", "replica"], "dealing": ["state"]},
+    swaps: {
+        "swap_pair": ["state", "swap"],
+        "is_silent": ["state", "swap"],
+        "barred_by": ["state", "swap"],
+        "apply_swap": ["state", "swap"],
+        "silent_swaps": ["state"],
+    },
+    runs: {
+        "play": ["state", "run"],
+        "first_fault": ["state", "run"],
+        "each_state": ["state", "run"],
+        "swapped_pairs": ["state", "run"],
+    },
+    moves: {
+        "expand_move": ["state", "move"],
+        "apply_move": ["state", "move"],
+        "can_move": ["state", "move"],
+        "expand_rewrite": ["state", "replica", "order"],
+        "rewrite": ["state", "replica", "order"],
+        "can_rewrite": ["state", "replica", "order"],
+    },
+    settling: {
+        "homeward": ["state"],
+        "is_settled": ["state"],
+        "settle_run": ["state", "replicas", "picks"],
+        "settle": ["state", "replicas"],
+        "settle_length": ["state", "replicas"],
+    },
+    forced: {
+        "word_relation": ["state", "replica"],
+        "closed_home": ["state"],
+        "forced_dissents": ["state", "replica"],
+        "voluntary_dissents": ["state", "replica"],
+    },
+}
+
+# The arguments that are passed by keyword only, with their default values.
+KEYWORDS = {
+    settling.settle_run: {"replicas": (0, 1, 2), "picks": ()},
+    settling.settle: {"replicas": (0, 1, 2)},
+    settling.settle_length: {"replicas": (0, 1, 2)},
 }
 
 CLASSES = {
@@ -37,6 +79,11 @@ CLASSES = {
         "components": [], "accepts": ["order"], "each_path": [],
         "__eq__": None, "__len__": None, "__contains__": None, "__neg__": None, "__sub__": None,
     },
+    runs.Run: {
+        "__init__": ["swaps"],
+        "of": ["swaps"], "read": ["text"], "steps": [], "shares": [], "only": ["replica"],
+        "__eq__": None, "__len__": None, "__add__": None, "__neg__": None, "__mul__": None, "__str__": None,
+    },
 }
 
 
@@ -48,6 +95,14 @@ class InterfaceTest(unittest.TestCase):
                     function = getattr(module, name)
                     self.assertEqual(function.__module__, module.__name__)
                     self.assertEqual(list(inspect.signature(function).parameters), arguments)
+
+    def test_arguments_by_keyword_only(self):
+        for module, functions in FUNCTIONS.items():
+            for name in functions:
+                with self.subTest(name):
+                    parameters = inspect.signature(getattr(module, name)).parameters.values()
+                    found = {one.name: one.default for one in parameters if one.kind is one.KEYWORD_ONLY}
+                    self.assertEqual(found, KEYWORDS.get(getattr(module, name), {}))
 
     def test_methods_are_defined_in_their_own_class(self):
         for owner, methods in CLASSES.items():
@@ -62,6 +117,7 @@ class InterfaceTest(unittest.TestCase):
         self.assertEqual(relations.Relation.__module__, "quorumdrift.relations")
         self.assertEqual(states.State.__module__, "quorumdrift.states")
         self.assertEqual(readings.Reading.__module__, "quorumdrift.readings")
+        self.assertEqual(runs.Run.__module__, "quorumdrift.runs")
         for name, value in vars(errors).items():
             if isinstance(value, type):
                 self.assertEqual(value.__module__, "quorumdrift.errors", name)
@@ -70,6 +126,9 @@ class InterfaceTest(unittest.TestCase):
         self.assertIsInstance(vars(states.State)["of"], classmethod)
         self.assertIsInstance(vars(states.State)["read"], classmethod)
         self.assertIsInstance(vars(states.State)["same"], staticmethod)
+        self.assertIsInstance(vars(runs.Run)["of"], classmethod)
+        self.assertIsInstance(vars(runs.Run)["read"], classmethod)
+        self.assertTrue(inspect.isgeneratorfunction(runs.each_state))
         self.assertTrue(inspect.isgeneratorfunction(relations.Relation.each_order))
         self.assertTrue(inspect.isgeneratorfunction(readings.Reading.each_path))
 
