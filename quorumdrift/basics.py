@@ -40,6 +40,11 @@ def pairs_in(order):
     return [(x, y) for place, x in enumerate(order) for y in order[place + 1:]]
 
 
+def triples_in(order):
+    """The tuples (x, y, z) with x before y before z in the list."""
+    return [(x, y, z) for place, x in enumerate(order) for y, z in pairs_in(order[place + 1:])]
+
+
 def number_in(word):
     """The number from 0 to 9999 that a word writes in digits without a leading zero, or None."""
     # A long word is refused before it is converted: Python limits the digits that it converts.

@@ -40,15 +40,19 @@ def voluntary_dissents(state, replica):
 
 def settled_list(state, replica):
     """The settled list of the replica: what follows from its words at pinned pairs, else what is read."""
-    relation = word_relation(state, replica)
-    reading = read(state)
-    keys = state.all_keys()
-    many = {key: len([x for x in keys if comes_before(relation, reading, x, key)]) for key in keys}
+    return list_by(word_relation(state, replica), read(state))
+
+
+def list_by(relation, reading):
+    """The list that has each pair as the relation implies it and, where it implies neither, as it is read."""
+    keys = reading.all_keys()
+    implied = {pair: True for pair in relation.closed()}
+    many = {key: len([x for x in keys if comes_before(implied, reading, x, key)]) for key in keys}
     return sorted(keys, key=lambda key: many[key])
 
 
-def comes_before(relation, reading, x, y):
-    """True if x comes before y by the relation or, where it implies neither, by the reading."""
-    if relation.implies(x, y) or relation.implies(y, x):
-        return relation.implies(x, y)
-    return reading.before(x, y)
+def comes_before(implied, reading, x, y):
+    """True if x comes before y as it is implied or, where neither is implied, as it is read."""
+    if (x, y) in implied or (y, x) in implied:
+        return (x, y) in implied
+    return (x, y) in reading

@@ -109,6 +109,11 @@ def read(state):
     return Reading(state.all_keys(), [pair for pair in votes if votes[pair] >= 2])
 
 
+def pairs_against(reading, order):
+    """The tuples (x, y), ascending, with x read before y but y before x in the list."""
+    return sorted([(x, y) for y, x in pairs_in(order) if reading.before(x, y)])
+
+
 def first_wrong_pair(all_keys, given):
     """The least pair that is not given in exactly one direction, or is given of one key; or None."""
     for place, x in enumerate(all_keys):

@@ -1,5 +1,6 @@
 """The document's words ([2]) once more, over plain lists, and states to try them on."""
 
+import random
 from itertools import combinations, permutations, product
 
 from quorumdrift.states import State
@@ -120,3 +121,47 @@ def missing_swaps_of(state):
     for replica in range(3):
         wrong += [(replica, index) for index in (-10000, -size, -2, -1, size - 1, size, size + 1, 10000)]
     return [swap for swap in wrong if swap not in all_swaps(state)]
+
+
+def spread(state, movers=(0, 1, 2)):
+    """For each three lists, as tuples, to which silent swaps of the movers lead: the fewest swaps."""
+    start = tuple(map(tuple, state.lists()))
+    found = {start: 0}
+    border = [start]
+    while border:
+        beyond = []
+        for lists in border:
+            for there in silent_steps(lists, movers):
+                if there not in found:
+                    found[there] = found[lists] + 1
+                    beyond.append(there)
+        border = beyond
+    return found
+
+
+def silent_steps(lists, movers=(0, 1, 2)):
+    """The lists after each silent swap: at keys about which the two other replicas agree."""
+    found = []
+    for replica in set(movers):
+        order = lists[replica]
+        others = lists[:replica] + lists[replica + 1:]
+        for index in range(len(order) - 1):
+            x, y = order[index:index + 2]
+            if stands_before(others[0], x, y) == stands_before(others[1], x, y):
+                turned = order[:index] + (y, x) + order[index + 2:]
+                found.append(lists[:replica] + (turned,) + lists[replica + 1:])
+    return found
+
+
+def members_of(state):
+    """The lists of the states of the class, ascending."""
+    return sorted([[list(order) for order in lists] for lists in spread(state)])
+
+
+def walked(state, many, seed):
+    """A state of the same class, after this many silent swaps that the seed alone decides."""
+    chance = random.Random(seed)
+    lists = tuple(map(tuple, state.lists()))
+    for _ in range(many):
+        lists = chance.choice(silent_steps(lists) or [lists])
+    return State(*map(list, lists))

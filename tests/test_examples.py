@@ -4,9 +4,13 @@ import doctest
 import pathlib
 import unittest
 
+from quorumdrift.dealings import build, census
 from quorumdrift.dissents import dealing
-from quorumdrift.errors import AudibleSwap
+from quorumdrift.distances import bounds, is_shortest, useful_swaps, word_distance
+from quorumdrift.errors import AudibleSwap, NoDealing
 from quorumdrift.forced import forced_dissents
+from quorumdrift.freedom import Freedom
+from quorumdrift.reach import explain_reach
 from quorumdrift.readings import Reading, read
 from quorumdrift.relations import Relation
 from quorumdrift.runs import Run, first_fault, play
@@ -48,6 +52,35 @@ class DocumentTest(DriftCase):
         run = Run.read("2.4 2.5 0.4 0.5 0.3 0.4 2.1 2.2 2.0 2.1 0.1 0.0 1.3 1.2 2.4 2.5")
         self.assertEqual((play(start, run), play(goal, -run), len(run)), (goal, start, 16))
         self.assertIsNone(first_fault(start, run))
+
+    def test_reach(self):
+        start = State([1, 2, 3], [2, 3, 1], [3, 1, 2])
+        goal = State([2, 3, 1], [1, 2, 3], [3, 1, 2])
+        self.assertEqual(explain_reach(start, goal).text(), "not reachable: dealt otherwise in 1 2 3")
+
+    def test_distances(self):
+        start = State([4, 1, 2, 5, 6, 7, 3], [1, 3, 6, 2, 4, 5, 7], [2, 3, 5, 1, 7, 4, 6])
+        goal = State([2, 4, 1, 7, 3, 5, 6], [1, 3, 4, 6, 2, 5, 7], [5, 1, 2, 3, 6, 7, 4])
+        run = Run.read("2.4 2.5 0.4 0.5 0.3 0.4 2.1 2.2 2.0 2.1 0.1 0.0 1.3 1.2 2.4 2.5")
+        found = [word_distance(start, goal), useful_swaps(start, goal), bounds(start, goal)[0]]
+        self.assertEqual([*found, is_shortest(start, goal, run)], [14, [], 16, True])
+
+    def test_freedom(self):
+        freedom = Freedom(State([2, 4, 3, 1], [3, 1, 2, 4], [1, 4, 3, 2]))
+        self.assertEqual([freedom.placed(0), freedom.list_count(0)], [[(1, 3), (2, 0), (3, 2), (4, 1)], 1])
+
+    def test_dealings(self):
+        self.assertEqual(census(3), (8, 18))
+        pairs = [
+            (0, 1), (0, 2), (3, 0), (0, 4), (0, 5), (1, 2), (1, 3), (1, 4), (5, 1), (2, 3), (2, 4), (5, 2), (4, 3),
+            (5, 3), (4, 5),
+        ]
+        shares = [
+            (0, 1, 0), (0, 2, 1), (3, 0, 2), (0, 4, 0), (0, 5, 1), (1, 3, 1), (1, 4, 2), (5, 1, 0), (2, 3, 0),
+            (2, 4, 0), (5, 2, 2), (4, 3, 1), (5, 3, 0), (4, 5, 1),
+        ]
+        reading = Reading([0, 1, 2, 3, 4, 5], pairs)
+        self.assert_raises(NoDealing, {"reason": ("clash", 1, 2, 1, 2)}, build, reading, shares)
 
     def test_cluster_state_by_a_swap(self):
         state = State.same([1, 2, 3])

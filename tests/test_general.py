@@ -3,10 +3,16 @@
 import copy
 import unittest
 
+from quorumdrift.certificates import DealtOtherwise, NotAllowed, ReadOtherwise
+from quorumdrift.dealings import build, class_at, class_rank, each_home
 from quorumdrift.dissents import dealing, dissenter, dissents
+from quorumdrift.distances import best_run, can_take, least_cost, passing, straight_run, useful_swaps
 from quorumdrift.forced import closed_home, forced_dissents, voluntary_dissents, word_relation
+from quorumdrift.freedom import Freedom
 from quorumdrift.lists import check_list, differing_pairs, straight_swaps, swap_at
+from quorumdrift.members import class_size, each_member
 from quorumdrift.moves import apply_move, can_move, can_rewrite, expand_move, expand_rewrite, rewrite
+from quorumdrift.reach import check_route, explain_reach, reaches, route
 from quorumdrift.readings import Reading, read
 from quorumdrift.relations import Relation
 from quorumdrift.runs import Run, each_state, first_fault, play, swapped_pairs
@@ -89,6 +95,7 @@ class HandedInTest(DriftCase):
         state = State(*LISTS)
         order, replicas, picks = [2, 4, 3, 1, 5, 6], [0, 0], [1]
         run = Run([(0, 4), (1, 4), (1, 4)])
+        other = State(LISTS[0][:4] + [5, 6], *LISTS[1:])
         actions = [dealing, silent_swaps, homeward, is_settled, settle_run, settle, settle_length, closed_home]
         calls = [lambda action=action: action(state) for action in actions]
         for action in (dissents, word_relation, forced_dissents, voluntary_dissents):
@@ -101,6 +108,13 @@ class HandedInTest(DriftCase):
             calls.append(lambda action=action: action(state, (0, 4, 5, 6)))
         for action in (expand_rewrite, rewrite, can_rewrite):
             calls.append(lambda action=action: action(state, 0, order))
+        for action in (reaches, explain_reach, route, passing, useful_swaps, straight_run, best_run, least_cost):
+            calls.append(lambda action=action: action(state, other))
+        calls.append(lambda: check_route(state, other, run, movers=replicas))
+        calls.append(lambda: can_take(state, other, 4))
+        calls.append(lambda: NotAllowed(1, (1, 2)).holds(state, other, movers=replicas))
+        calls.append(lambda: [class_size(state, limit=10 ** 6), class_rank(state), next(each_member(state))])
+        calls.append(lambda: [Freedom(state).hold((0, order)), Freedom(state).show(1, 6, 5)])
         calls.append(lambda: dissenter(state, 1, 2))
         calls.append(lambda: list(each_state(state, run)))
         calls.append(lambda: settle_run(state, replicas=replicas, picks=picks))
@@ -194,8 +208,38 @@ class HandedOutTest(DriftCase):
             lambda state: expand_move(state, (0, 4, 5, 6)).steps(),
             lambda state: rewrite(state, 0, LISTS[0]).lists(),
             lambda state: next(each_state(state, Run([]))).lists(),
+            lambda state: route(state, state).steps(),
+            lambda state: passing(state, settle(state)),
+            lambda state: useful_swaps(state, settle(state)),
+            lambda state: best_run(state, settle(state)).steps(),
+            lambda state: next(each_member(state)).lists(),
+            lambda state: next(each_home(read(state))).lists(),
+            lambda state: class_at(read(state), 0).lists(),
+            lambda state: build(read(state), dealing(state)).lists(),
         ])
         self.assertEqual(LISTS[0], [2, 4, 3, 1, 6, 5])
+
+    def test_freedoms(self):
+        self.check(lambda: Freedom(State(*LISTS)), [
+            lambda freedom: freedom.settled().lists(),
+            lambda freedom: freedom.relation(0).closed(),
+            lambda freedom: freedom.fixed_pairs(1),
+            lambda freedom: freedom.placed(2),
+            lambda freedom: freedom.hold((0, [2, 4, 3, 1, 6, 5])).lists(),
+            lambda freedom: freedom.show(0, 6, 5).steps(),
+        ])
+
+    def test_a_freedom_copies_the_lists_of_claims(self):
+        order = [2, 4, 3, 1, 6, 5]
+        held = Freedom(State(*LISTS)).hold((0, order))
+        order.reverse()
+        self.assertEqual(held.lists()[0], [2, 4, 3, 1, 6, 5])
+
+    def test_a_dealing_is_copied(self):
+        shares = [(1, 2, 1), (2, 3, 2), (3, 1, 0)]
+        home = build(Reading(*CIRCLE), shares)
+        shares.clear()
+        self.assertEqual(home.lists(), [[1, 2, 3], [2, 3, 1], [3, 1, 2]])
 
     def test_yielded_states_do_not_hang_together(self):
         state = State(*LISTS)
@@ -227,7 +271,10 @@ class HandedOutTest(DriftCase):
 
 class ComparisonTest(DriftCase):
     def test_objects_of_unlike_kinds_are_unequal(self):
-        things = [Relation([], []), Reading([], []), State([], [], []), Run([]), [], None, "", 0]
+        things = [
+            Relation([], []), Reading([], []), State([], [], []), Run([]), [], None, "", 0, (1, 2),
+            ReadOtherwise((1, 2)), DealtOtherwise((1, 2)), NotAllowed(0, (1, 2)),
+        ]
         for place, thing in enumerate(things):
             for other_place, other in enumerate(things):
                 self.assertIs(thing == other, place == other_place)

@@ -3,7 +3,8 @@
 import inspect
 import unittest
 
-from quorumdrift import dissents, errors, forced, lists, moves, readings, relations, runs, settling, states, swaps
+from quorumdrift import certificates, dealings, dissents, distances, errors, forced, freedom, lists, members, moves
+from quorumdrift import reach, readings, relations, runs, settling, states, swaps
 
 FUNCTIONS = {
     lists: {
@@ -48,6 +49,32 @@ FUNCTIONS = {
         "forced_dissents": ["state", "replica"],
         "voluntary_dissents": ["state", "replica"],
     },
+    reach: {
+        "reaches": ["start", "goal", "movers"],
+        "explain_reach": ["start", "goal", "movers"],
+        "route": ["start", "goal", "movers"],
+        "check_route": ["start", "goal", "run", "movers"],
+    },
+    distances: {
+        "word_distance": ["start", "goal"],
+        "passing": ["start", "goal"],
+        "useful_swaps": ["start", "goal"],
+        "straight_run": ["start", "goal"],
+        "best_run": ["start", "goal"],
+        "bounds": ["start", "goal"],
+        "is_shortest": ["start", "goal", "run"],
+        "can_take": ["start", "goal", "count"],
+        "least_cost": ["start", "goal", "prices"],
+    },
+    members: {"class_size": ["state", "limit"], "each_member": ["state"]},
+    dealings: {
+        "each_home": ["reading"],
+        "class_count": ["reading"],
+        "class_rank": ["state"],
+        "class_at": ["reading", "rank"],
+        "census": ["size"],
+        "build": ["reading", "shares"],
+    },
 }
 
 # The arguments that are passed by keyword only, with their default values.
@@ -55,6 +82,12 @@ KEYWORDS = {
     settling.settle_run: {"replicas": (0, 1, 2), "picks": ()},
     settling.settle: {"replicas": (0, 1, 2)},
     settling.settle_length: {"replicas": (0, 1, 2)},
+    reach.reaches: {"movers": (0, 1, 2)},
+    reach.explain_reach: {"movers": (0, 1, 2)},
+    reach.route: {"movers": (0, 1, 2)},
+    reach.check_route: {"movers": (0, 1, 2)},
+    distances.least_cost: {"prices": (1, 1, 1)},
+    members.class_size: {"limit": 10000},
 }
 
 CLASSES = {
@@ -84,7 +117,30 @@ CLASSES = {
         "of": ["swaps"], "read": ["text"], "steps": [], "shares": [], "only": ["replica"],
         "__eq__": None, "__len__": None, "__add__": None, "__neg__": None, "__mul__": None, "__str__": None,
     },
+    certificates.Certificate: {"holds": ["start", "goal", "movers"], "text": []},
+    certificates.ReadOtherwise: {
+        "__init__": ["pair"], "holds": ["start", "goal", "movers"], "text": [], "__eq__": None,
+    },
+    certificates.DealtOtherwise: {
+        "__init__": ["triple"], "holds": ["start", "goal", "movers"], "text": [], "__eq__": None,
+    },
+    certificates.NotAllowed: {
+        "__init__": ["replica", "pair"], "holds": ["start", "goal", "movers"], "text": [], "__eq__": None,
+    },
+    freedom.Freedom: {
+        "__init__": ["state"],
+        "settled": [], "relation": ["replica"], "may_say": ["replica", "x", "y"],
+        "may_dissent": ["replica", "x", "y"], "fixed_pairs": ["replica"], "span": ["replica", "key"],
+        "placed": ["replica"], "list_count": ["replica"], "can_hold": ["replica", "order"],
+        "hold": ["claims"], "show": ["replica", "x", "y"],
+    },
 }
+
+
+def by_keyword_only(function):
+    """The arguments of a function that are passed by keyword only, with their default values."""
+    parameters = inspect.signature(function).parameters.values()
+    return {one.name: one.default for one in parameters if one.kind is one.KEYWORD_ONLY}
 
 
 class InterfaceTest(unittest.TestCase):
@@ -97,12 +153,15 @@ class InterfaceTest(unittest.TestCase):
                     self.assertEqual(list(inspect.signature(function).parameters), arguments)
 
     def test_arguments_by_keyword_only(self):
-        for module, functions in FUNCTIONS.items():
-            for name in functions:
-                with self.subTest(name):
-                    parameters = inspect.signature(getattr(module, name)).parameters.values()
-                    found = {one.name: one.default for one in parameters if one.kind is one.KEYWORD_ONLY}
-                    self.assertEqual(found, KEYWORDS.get(getattr(module, name), {}))
+        functions = [getattr(module, name) for module, names in FUNCTIONS.items() for name in names]
+        for function in functions:
+            with self.subTest(function):
+                self.assertEqual(by_keyword_only(function), KEYWORDS.get(function, {}))
+        for owner, methods in CLASSES.items():
+            for name in methods:
+                with self.subTest(owner=owner, name=name):
+                    wanted = {"movers": (0, 1, 2)} if name == "holds" else {}
+                    self.assertEqual(by_keyword_only(getattr(owner, name)), wanted)
 
     def test_methods_are_defined_in_their_own_class(self):
         for owner, methods in CLASSES.items():
@@ -118,6 +177,9 @@ class InterfaceTest(unittest.TestCase):
         self.assertEqual(states.State.__module__, "quorumdrift.states")
         self.assertEqual(readings.Reading.__module__, "quorumdrift.readings")
         self.assertEqual(runs.Run.__module__, "quorumdrift.runs")
+        self.assertEqual(freedom.Freedom.__module__, "quorumdrift.freedom")
+        for name in ("Certificate", "ReadOtherwise", "DealtOtherwise", "NotAllowed"):
+            self.assertEqual(getattr(certificates, name).__module__, "quorumdrift.certificates")
         for name, value in vars(errors).items():
             if isinstance(value, type):
                 self.assertEqual(value.__module__, "quorumdrift.errors", name)
@@ -131,6 +193,8 @@ class InterfaceTest(unittest.TestCase):
         self.assertTrue(inspect.isgeneratorfunction(runs.each_state))
         self.assertTrue(inspect.isgeneratorfunction(relations.Relation.each_order))
         self.assertTrue(inspect.isgeneratorfunction(readings.Reading.each_path))
+        self.assertTrue(inspect.isgeneratorfunction(members.each_member))
+        self.assertTrue(inspect.isgeneratorfunction(dealings.each_home))
 
 
 if __name__ == "__main__":
