@@ -41,8 +41,9 @@ ALIKE = pairs_in_classes()
 
 def words_apart(start, goal):
     """For each replica, the number of pairs at which it says different things in the two states."""
+    pairs = list(combinations(start.all_keys(), 2))
     return [
-        len([pair for pair in combinations(start.all_keys(), 2) if stands_before(here, *pair) != stands_before(there, *pair)])
+        len([pair for pair in pairs if stands_before(here, *pair) != stands_before(there, *pair)])
         for here, there in zip(start.lists(), goal.lists())
     ]
 
@@ -304,8 +305,10 @@ class CanTakeTest(DriftCase):
 
     def test_to_and_fro(self):
         start, goal = State.same([1, 2]), State([1, 2], [2, 1], [1, 2])
-        self.assertEqual([can_take(start, goal, count) for count in range(-1, 6)], [False, False, True] + [False, True] * 2)
-        self.assertEqual([can_take(start, start, count) for count in range(-2, 5)], [False, False] + [True, False] * 2 + [True])
+        found = [can_take(start, goal, count) for count in range(-1, 6)]
+        self.assertEqual(found, [False, False, True, False, True, False, True])
+        found = [can_take(start, start, count) for count in range(-2, 5)]
+        self.assertEqual(found, [False, False, True, False, True, False, True])
 
 
 class LeastCostTest(DriftCase):

@@ -10,13 +10,16 @@ from quorumdrift.distances import bounds, is_shortest, useful_swaps, word_distan
 from quorumdrift.errors import AudibleSwap, NoDealing
 from quorumdrift.forced import forced_dissents
 from quorumdrift.freedom import Freedom
+from quorumdrift.policies import resolve, violations
 from quorumdrift.reach import explain_reach
 from quorumdrift.readings import Reading, read
+from quorumdrift.rebuilding import LostReplica
 from quorumdrift.relations import Relation
 from quorumdrift.runs import Run, first_fault, play
 from quorumdrift.settling import settle_run
 from quorumdrift.states import State
 from quorumdrift.swaps import apply_swap, barred_by, silent_swaps
+from quorumdrift.threeway import ThreeWay
 from tests.helpers import DriftCase
 
 README = pathlib.Path(__file__).resolve().parent.parent / "README.md"
@@ -87,9 +90,16 @@ class DocumentTest(DriftCase):
         self.assertIn((1, 0), silent_swaps(state))
         self.assertEqual(str(apply_swap(state, (1, 0))), "1 2 3 / 2 1 3 / 1 2 3")
 
-    def test_reading_under_rebuilding(self):
+    def test_rebuilding(self):
         reading = Reading([1, 2, 3], [(1, 2), (2, 3), (3, 1)])
         self.assertEqual(reading, read(State([1, 2, 3], [2, 3, 1], [3, 1, 2])))
+        lost = LostReplica([1, 2, 3], [2, 3, 1], reading)
+        self.assertEqual([lost.order_count(), lost.settled_list()], [1, [3, 1, 2]])
+
+    def test_policies(self):
+        three = ThreeWay([1, 2, 3, 4], [2, 1, 3, 4], [1, 3, 2, 4])
+        found = [three.conflicts(), resolve(three), violations(three, [2, 1, 3, 4])]
+        self.assertEqual(found, [[((1, 3, 2), ("nobody", "yours", "mine"))], [2, 1, 3, 4], [(3, 2)]])
 
 
 class ReadmeTest(unittest.TestCase):

@@ -334,7 +334,8 @@ class ErrorsTest(DriftCase):
         freedom = Freedom(CIRCLE)
         for replica in range(3):
             for action in (freedom.may_say, freedom.may_dissent, freedom.show):
-                for x, y, key in ((9, 1, 9), (1, 9, 9), (9, 8, 9), (8, 9, 8), (9, 9, 9), (-1, 3, -1), (3, 10000, 10000)):
+                wrong = [(9, 1, 9), (1, 9, 9), (9, 8, 9), (8, 9, 8), (9, 9, 9), (-1, 3, -1), (3, 10000, 10000)]
+                for x, y, key in wrong:
                     self.assert_raises(UnknownKey, {"key": key}, action, replica, x, y)
             for key in (0, 4, -1, 10000):
                 self.assert_raises(UnknownKey, {"key": key}, freedom.span, replica, key)

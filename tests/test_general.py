@@ -11,14 +11,19 @@ from quorumdrift.forced import closed_home, forced_dissents, voluntary_dissents,
 from quorumdrift.freedom import Freedom
 from quorumdrift.lists import check_list, differing_pairs, straight_swaps, swap_at
 from quorumdrift.members import class_size, each_member
+from quorumdrift.orderlists import OrderList
+from quorumdrift.policies import regions, resolve, violations
 from quorumdrift.moves import apply_move, can_move, can_rewrite, expand_move, expand_rewrite, rewrite
 from quorumdrift.reach import check_route, explain_reach, reaches, route
 from quorumdrift.readings import Reading, read
+from quorumdrift.rebuilding import LostReplica
 from quorumdrift.relations import Relation
 from quorumdrift.runs import Run, each_state, first_fault, play, swapped_pairs
 from quorumdrift.settling import homeward, is_settled, settle, settle_length, settle_run
+from quorumdrift.shardmaps import ShardMap
 from quorumdrift.states import State
 from quorumdrift.swaps import apply_swap, barred_by, is_silent, silent_swaps, swap_pair
+from quorumdrift.threeway import ThreeWay
 from tests.helpers import DriftCase
 
 CHAIN = ([3, 1, 2], [(3, 1), (1, 2)])
@@ -241,6 +246,43 @@ class HandedOutTest(DriftCase):
         shares.clear()
         self.assertEqual(home.lists(), [[1, 2, 3], [2, 3, 1], [3, 1, 2]])
 
+    def test_lost_replicas(self):
+        self.check(lambda: LostReplica([1, 2, 3], [2, 3, 1], Reading(*CIRCLE)), [
+            LostReplica.least, LostReplica.settled_list,
+            lambda lost: lost.relation().closed(),
+            lambda lost: lost.state().lists(),
+        ])
+
+    def test_three_way_merges(self):
+        self.check(lambda: ThreeWay([1, 2, 3, 4, 5], [2, 1, 3, 4, 5], [1, 3, 2, 4, 5]), [
+            ThreeWay.conflicts, ThreeWay.silent_edits, regions, resolve,
+            lambda three: three.side("old"),
+            lambda three: three.side("mine"),
+            lambda three: three.side("yours"),
+            lambda three: three.state().lists(),
+            lambda three: three.merged().pairs(),
+            lambda three: three.settled().side("old"),
+            lambda three: three.flipped().side("mine"),
+            lambda three: three.edits_to(three.settled()),
+            lambda three: violations(three, [5, 4, 3, 2, 1]),
+        ])
+        self.check(lambda: ThreeWay([1, 2], [1, 2], [2, 1]), [ThreeWay.order])
+
+    def test_contents(self):
+        makes = [lambda: OrderList([3, 1, 2]), lambda: ShardMap([[3, 1], [2]])]
+        for make in makes:
+            self.check(make, [
+                lambda contents: contents.all_keys(),
+                lambda contents: contents.places(),
+                lambda contents: contents.words(),
+                lambda contents: contents.changes()[0].words(),
+                lambda contents: contents.conflicts([(1, 2), (2, 3)]),
+                lambda contents: contents.like([(1, 2)]).words(),
+            ])
+            self.assertEqual(len(make().changes()), len(make().changes()))
+        self.check(makes[0], [OrderList.order, lambda contents: contents.like([]).order()])
+        self.check(makes[1], [ShardMap.groups, lambda contents: contents.like([]).groups()])
+
     def test_yielded_states_do_not_hang_together(self):
         state = State(*LISTS)
         run = Run.of((0, 4), (1, 4))
@@ -274,6 +316,7 @@ class ComparisonTest(DriftCase):
         things = [
             Relation([], []), Reading([], []), State([], [], []), Run([]), [], None, "", 0, (1, 2),
             ReadOtherwise((1, 2)), DealtOtherwise((1, 2)), NotAllowed(0, (1, 2)),
+            ThreeWay([], [], []), OrderList([]), ShardMap([]),
         ]
         for place, thing in enumerate(things):
             for other_place, other in enumerate(things):

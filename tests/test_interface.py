@@ -3,8 +3,9 @@
 import inspect
 import unittest
 
-from quorumdrift import certificates, dealings, dissents, distances, errors, forced, freedom, lists, members, moves
-from quorumdrift import reach, readings, relations, runs, settling, states, swaps
+from quorumdrift import certificates, contents, dealings, dissents, distances, errors, forced, freedom, lists, members
+from quorumdrift import moves, orderlists, policies, reach, readings, rebuilding, relations, runs, settling, shardmaps
+from quorumdrift import states, swaps, threeway
 
 FUNCTIONS = {
     lists: {
@@ -75,6 +76,7 @@ FUNCTIONS = {
         "census": ["size"],
         "build": ["reading", "shares"],
     },
+    policies: {"regions": ["three"], "resolve": ["three", "policy"], "violations": ["three", "order"]},
 }
 
 # The arguments that are passed by keyword only, with their default values.
@@ -88,6 +90,13 @@ KEYWORDS = {
     reach.check_route: {"movers": (0, 1, 2)},
     distances.least_cost: {"prices": (1, 1, 1)},
     members.class_size: {"limit": 10000},
+    policies.resolve: {"policy": None},
+}
+
+# What each kind of contents has of its own, beside its constructor.
+OF_CONTENTS = {
+    "all_keys": [], "label": [], "places": [], "words": [], "like": ["words"], "changes": [],
+    "conflicts": ["words"], "forced": ["place", "pinned"], "__eq__": None, "__len__": None, "__contains__": None,
 }
 
 CLASSES = {
@@ -134,6 +143,23 @@ CLASSES = {
         "placed": ["replica"], "list_count": ["replica"], "can_hold": ["replica", "order"],
         "hold": ["claims"], "show": ["replica", "x", "y"],
     },
+    rebuilding.LostReplica: {
+        "__init__": ["first", "second", "reading"],
+        "relation": [], "fault": [], "accepts": ["order"], "order_count": [], "least": [], "settled_list": [],
+        "state": [],
+    },
+    threeway.ThreeWay: {
+        "__init__": ["old", "mine", "yours"],
+        "side": ["name"], "state": [], "merged": [], "order": [], "changed_by": ["x", "y"], "conflicts": [],
+        "silent_edits": [], "edit": ["side", "index"], "settled": [], "same_merge": ["other"],
+        "edits_to": ["other"], "flipped": [], "__eq__": None,
+    },
+    policies.Policy: {"__call__": ["three", "region"], "label": []},
+    policies.PreferSide: {"__init__": ["side"], "__call__": ["three", "region"], "label": []},
+    policies.Backward: {"__init__": ["inner"], "__call__": ["three", "region"], "label": []},
+    contents.Contents: {"__init__": ["all_keys"], "all_keys": [], "label": []},
+    orderlists.OrderList: {"__init__": ["order"], "order": [], **OF_CONTENTS},
+    shardmaps.ShardMap: {"__init__": ["groups"], "groups": [], **OF_CONTENTS},
 }
 
 
@@ -178,6 +204,13 @@ class InterfaceTest(unittest.TestCase):
         self.assertEqual(readings.Reading.__module__, "quorumdrift.readings")
         self.assertEqual(runs.Run.__module__, "quorumdrift.runs")
         self.assertEqual(freedom.Freedom.__module__, "quorumdrift.freedom")
+        self.assertEqual(rebuilding.LostReplica.__module__, "quorumdrift.rebuilding")
+        self.assertEqual(threeway.ThreeWay.__module__, "quorumdrift.threeway")
+        self.assertEqual(contents.Contents.__module__, "quorumdrift.contents")
+        self.assertEqual(orderlists.OrderList.__module__, "quorumdrift.orderlists")
+        self.assertEqual(shardmaps.ShardMap.__module__, "quorumdrift.shardmaps")
+        for name in ("Policy", "PreferSide", "Backward"):
+            self.assertEqual(getattr(policies, name).__module__, "quorumdrift.policies")
         for name in ("Certificate", "ReadOtherwise", "DealtOtherwise", "NotAllowed"):
             self.assertEqual(getattr(certificates, name).__module__, "quorumdrift.certificates")
         for name, value in vars(errors).items():

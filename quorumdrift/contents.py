@@ -1,0 +1,30 @@
+"""What all kinds of contents have: keys, and places at which their word is on or off."""
+
+from quorumdrift.basics import first_wrong_place
+from quorumdrift.errors import InvalidContents, UnknownPlace
+
+MOST_HELD = 8
+
+
+class Contents:
+    """The keys of contents of any kind."""
+
+    def __init__(self, all_keys):
+        if len(all_keys) > MOST_HELD or first_wrong_place(all_keys) is not None:
+            raise InvalidContents()
+        self._all_keys = sorted(all_keys)
+
+    def all_keys(self):
+        """The keys, ascending."""
+        return list(self._all_keys)
+
+    def label(self):
+        """The number of keys in words."""
+        return f"{len(self._all_keys)} keys"
+
+
+def check_places(places, given):
+    """Raise UnknownPlace for the first given tuple that is not one of the places."""
+    for place in given:
+        if place not in places:
+            raise UnknownPlace(place)
