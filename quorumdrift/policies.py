@@ -25,7 +25,7 @@ class PreferSide(Policy):
         self._side = side
 
     def __call__(self, three, region):
-        return [key for key in three.side(self._side) if key in region]
+        return as_in_side(three, self._side, region)
 
     def label(self):
         """The policy in words."""
@@ -44,6 +44,11 @@ class Backward(Policy):
     def label(self):
         """The policy in words."""
         return super().label() + " but backward of " + self._inner.label()
+
+
+def as_in_side(three, side, region):
+    """The keys of the region in the order in which that side of the merge has them."""
+    return [key for key in three.side(side) if key in region]
 
 
 def regions(three):
