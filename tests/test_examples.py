@@ -4,12 +4,14 @@ import doctest
 import pathlib
 import unittest
 
+from quorumdrift.cachesets import CacheSet
 from quorumdrift.dealings import build, census
 from quorumdrift.dissents import dealing
 from quorumdrift.distances import bounds, is_shortest, useful_swaps, word_distance
 from quorumdrift.errors import AudibleSwap, NoDealing
 from quorumdrift.forced import forced_dissents
 from quorumdrift.freedom import Freedom
+from quorumdrift.paths import trio_explain, trio_reaches
 from quorumdrift.policies import resolve, violations
 from quorumdrift.reach import explain_reach
 from quorumdrift.readings import Reading, read
@@ -20,6 +22,9 @@ from quorumdrift.settling import settle_run
 from quorumdrift.states import State
 from quorumdrift.swaps import apply_swap, barred_by, silent_swaps
 from quorumdrift.threeway import ThreeWay
+from quorumdrift.tierlists import TierList
+from quorumdrift.trios import Trio
+from quorumdrift.views import loosen
 from tests.helpers import DriftCase
 
 README = pathlib.Path(__file__).resolve().parent.parent / "README.md"
@@ -100,6 +105,16 @@ class DocumentTest(DriftCase):
         three = ThreeWay([1, 2, 3, 4], [2, 1, 3, 4], [1, 3, 2, 4])
         found = [three.conflicts(), resolve(three), violations(three, [2, 1, 3, 4])]
         self.assertEqual(found, [[((1, 3, 2), ("nobody", "yours", "mine"))], [2, 1, 3, 4], [(3, 2)]])
+
+    def test_cachesets(self):
+        self.assertIs(CacheSet([1, 2, 3], [1, 2], [(1, 2, 3)]).forced((3,), [(1,), (2,)]), False)
+
+    def test_views(self):
+        flat = TierList([[0, 1, 2]])
+        start = Trio(flat, TierList([[0], [1, 2]]), TierList([[0, 2], [1]]))
+        goal = Trio(TierList([[0], [1, 2]]), flat, TierList([[0, 2], [1]]))
+        found = [trio_explain(start, goal), trio_reaches(loosen(start), loosen(goal))]
+        self.assertEqual(found, [("dealt", ((0, 1), (0, 2), (2, 1))), True])
 
 
 class ReadmeTest(unittest.TestCase):

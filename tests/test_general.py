@@ -3,8 +3,10 @@
 import copy
 import unittest
 
+from quorumdrift.cachesets import CacheSet
 from quorumdrift.certificates import DealtOtherwise, NotAllowed, ReadOtherwise
 from quorumdrift.dealings import build, class_at, class_rank, each_home
+from quorumdrift.dependencysets import DependencySet
 from quorumdrift.dissents import dealing, dissenter, dissents
 from quorumdrift.distances import best_run, can_take, least_cost, passing, straight_run, useful_swaps
 from quorumdrift.forced import closed_home, forced_dissents, voluntary_dissents, word_relation
@@ -12,6 +14,7 @@ from quorumdrift.freedom import Freedom
 from quorumdrift.lists import check_list, differing_pairs, straight_swaps, swap_at
 from quorumdrift.members import class_size, each_member
 from quorumdrift.orderlists import OrderList
+from quorumdrift.paths import expand_change, settle_path, trio_path
 from quorumdrift.policies import regions, resolve, violations
 from quorumdrift.moves import apply_move, can_move, can_rewrite, expand_move, expand_rewrite, rewrite
 from quorumdrift.reach import check_route, explain_reach, reaches, route
@@ -24,6 +27,9 @@ from quorumdrift.shardmaps import ShardMap
 from quorumdrift.states import State
 from quorumdrift.swaps import apply_swap, barred_by, is_silent, silent_swaps, swap_pair
 from quorumdrift.threeway import ThreeWay
+from quorumdrift.tierlists import TierList
+from quorumdrift.trios import Trio
+from quorumdrift.views import as_trio, loosen, view_path
 from tests.helpers import DriftCase
 
 CHAIN = ([3, 1, 2], [(3, 1), (1, 2)])
@@ -283,6 +289,33 @@ class HandedOutTest(DriftCase):
         self.check(makes[0], [OrderList.order, lambda contents: contents.like([]).order()])
         self.check(makes[1], [ShardMap.groups, lambda contents: contents.like([]).groups()])
 
+    def test_contents_of_the_three_other_kinds(self):
+        shared = [
+            lambda contents: contents.all_keys(),
+            lambda contents: contents.places(),
+            lambda contents: contents.words(),
+            lambda contents: contents.changes()[0].words(),
+            lambda contents: contents.conflicts([(1, 2), (2, 3), (1,), (2,), (3,)]),
+            lambda contents: contents.like([]).words(),
+        ]
+        self.check(lambda: DependencySet([1, 2, 3], [(3, 1)]), shared + [DependencySet.pairs])
+        self.check(lambda: CacheSet([1, 2, 3], [3, 1], [(3, 2, 1)]), shared + [CacheSet.held, CacheSet.book])
+        self.check(lambda: TierList([[3, 1], [2]]), shared + [TierList.ranks])
+
+    def test_trios(self):
+        questions = [
+            Trio.reading, Trio.conflicts, Trio.pinned, Trio.dealing, Trio.silent_changes, Trio.homeward, settle_path,
+            lambda trio: trio.contents_of(0).words(),
+            lambda trio: trio.closed_home().contents_of(1).words(),
+            lambda trio: trio_path(trio, trio),
+            lambda trio: expand_change(trio, 0, trio.contents_of(0)),
+        ]
+        orders = ([1, 2, 3, 5, 4], [2, 3, 1, 4, 5], [3, 1, 2, 4, 5])
+        self.check(lambda: Trio(*[OrderList(order) for order in orders]), questions)
+        self.check(lambda: Trio(*[TierList([order[:2], order[2:]]) for order in orders]), questions)
+        self.check(lambda: as_trio(State(*orders), "tiers"), questions + [lambda trio: loosen(trio).reading()])
+        self.check(lambda: State(*orders), [lambda state: view_path(state, Run.of((0, 3)), "tiers")])
+
     def test_yielded_states_do_not_hang_together(self):
         state = State(*LISTS)
         run = Run.of((0, 4), (1, 4))
@@ -316,7 +349,8 @@ class ComparisonTest(DriftCase):
         things = [
             Relation([], []), Reading([], []), State([], [], []), Run([]), [], None, "", 0, (1, 2),
             ReadOtherwise((1, 2)), DealtOtherwise((1, 2)), NotAllowed(0, (1, 2)),
-            ThreeWay([], [], []), OrderList([]), ShardMap([]),
+            ThreeWay([], [], []), OrderList([]), ShardMap([]), DependencySet([], []), CacheSet([], [], []), TierList([]),
+            Trio(*[OrderList([])] * 3), Trio(*[TierList([])] * 3),
         ]
         for place, thing in enumerate(things):
             for other_place, other in enumerate(things):

@@ -3,9 +3,10 @@
 import inspect
 import unittest
 
-from quorumdrift import certificates, contents, dealings, dissents, distances, errors, forced, freedom, lists, members
-from quorumdrift import moves, orderlists, policies, reach, readings, rebuilding, relations, runs, settling, shardmaps
-from quorumdrift import states, swaps, threeway
+from quorumdrift import cachesets, certificates, contents, dealings, dependencysets, dissents, distances, errors
+from quorumdrift import forced, freedom, lists, members, moves, orderlists, paths, policies, reach, readings
+from quorumdrift import rebuilding, relations, runs, settling, shardmaps, states, swaps, threeway, tierlists, trios
+from quorumdrift import views
 
 FUNCTIONS = {
     lists: {
@@ -77,6 +78,20 @@ FUNCTIONS = {
         "build": ["reading", "shares"],
     },
     policies: {"regions": ["three"], "resolve": ["three", "policy"], "violations": ["three", "order"]},
+    paths: {
+        "settle_path": ["trio", "replicas", "picks"],
+        "play_path": ["trio", "path"],
+        "trio_reaches": ["start", "goal", "movers"],
+        "trio_explain": ["start", "goal", "movers"],
+        "trio_path": ["start", "goal", "movers"],
+        "expand_change": ["trio", "replica", "contents"],
+    },
+    views: {
+        "as_trio": ["state", "kind"],
+        "view_path": ["state", "run", "kind"],
+        "kinds_reach": ["start", "goal"],
+        "loosen": ["trio"],
+    },
 }
 
 # The arguments that are passed by keyword only, with their default values.
@@ -91,6 +106,10 @@ KEYWORDS = {
     distances.least_cost: {"prices": (1, 1, 1)},
     members.class_size: {"limit": 10000},
     policies.resolve: {"policy": None},
+    paths.settle_path: {"replicas": (0, 1, 2), "picks": ()},
+    paths.trio_reaches: {"movers": (0, 1, 2)},
+    paths.trio_explain: {"movers": (0, 1, 2)},
+    paths.trio_path: {"movers": (0, 1, 2)},
 }
 
 # What each kind of contents has of its own, beside its constructor.
@@ -160,6 +179,16 @@ CLASSES = {
     contents.Contents: {"__init__": ["all_keys"], "all_keys": [], "label": []},
     orderlists.OrderList: {"__init__": ["order"], "order": [], **OF_CONTENTS},
     shardmaps.ShardMap: {"__init__": ["groups"], "groups": [], **OF_CONTENTS},
+    dependencysets.DependencySet: {"__init__": ["all_keys", "pairs"], "pairs": [], **OF_CONTENTS},
+    cachesets.CacheSet: {"__init__": ["all_keys", "held", "book"], "held": [], "book": [], **OF_CONTENTS},
+    tierlists.TierList: {"__init__": ["ranks"], "ranks": [], **OF_CONTENTS},
+    trios.Trio: {
+        "__init__": ["first", "second", "third"],
+        "contents_of": ["replica"], "label": [], "reading": [], "conflicts": [], "pinned": [],
+        "dissenter": ["place"], "dealing": [], "is_silent": ["replica", "contents"],
+        "with_contents": ["replica", "contents"], "silent_changes": [], "homeward": [], "closed_home": [],
+        "__eq__": None,
+    },
 }
 
 
@@ -209,6 +238,10 @@ class InterfaceTest(unittest.TestCase):
         self.assertEqual(contents.Contents.__module__, "quorumdrift.contents")
         self.assertEqual(orderlists.OrderList.__module__, "quorumdrift.orderlists")
         self.assertEqual(shardmaps.ShardMap.__module__, "quorumdrift.shardmaps")
+        self.assertEqual(dependencysets.DependencySet.__module__, "quorumdrift.dependencysets")
+        self.assertEqual(cachesets.CacheSet.__module__, "quorumdrift.cachesets")
+        self.assertEqual(tierlists.TierList.__module__, "quorumdrift.tierlists")
+        self.assertEqual(trios.Trio.__module__, "quorumdrift.trios")
         for name in ("Policy", "PreferSide", "Backward"):
             self.assertEqual(getattr(policies, name).__module__, "quorumdrift.policies")
         for name in ("Certificate", "ReadOtherwise", "DealtOtherwise", "NotAllowed"):
