@@ -11,10 +11,7 @@ from quorumdrift.states import State
 from quorumdrift.tierlists import TierList
 from quorumdrift.trios import Trio
 
-ORDERS = "orders"
-DEPENDENCIES = "dependencies"
-TIERS = "tiers"
-KINDS = (ORDERS, DEPENDENCIES, TIERS)
+KINDS = ("orders", "dependencies", "tiers")
 
 
 def as_trio(state, kind):
@@ -61,18 +58,18 @@ def check_kind(kind):
 
 def as_contents(order, kind):
     """The list as contents of this kind."""
-    if kind == ORDERS:
+    if kind == OrderList.KIND:
         return OrderList(order)
-    if kind == DEPENDENCIES:
+    if kind == DependencySet.KIND:
         return DependencySet(order, pairs_in(order))
     return TierList([[key] for key in order])
 
 
 def between(order, pair, kind):
     """The contents, none or one, that stand between the list and the one in which the pair is exchanged."""
-    if kind == ORDERS:
+    if kind == OrderList.KIND:
         return []
-    if kind == DEPENDENCIES:
+    if kind == DependencySet.KIND:
         return [DependencySet(order, [other for other in pairs_in(order) if other != pair])]
     x, y = pair
     return [TierList([[key, y] if key == x else [key] for key in order if key != y])]

@@ -5,10 +5,12 @@ import pathlib
 import unittest
 
 from quorumdrift.cachesets import CacheSet
+from quorumdrift.clusters import Cluster
 from quorumdrift.dealings import build, census
+from quorumdrift.deeds import parse_deeds
 from quorumdrift.dissents import dealing
 from quorumdrift.distances import bounds, is_shortest, useful_swaps, word_distance
-from quorumdrift.errors import AudibleSwap, NoDealing
+from quorumdrift.errors import AudibleSwap, InvalidLine, NoDealing
 from quorumdrift.forced import forced_dissents
 from quorumdrift.freedom import Freedom
 from quorumdrift.paths import trio_explain, trio_reaches
@@ -17,6 +19,7 @@ from quorumdrift.reach import explain_reach
 from quorumdrift.readings import Reading, read
 from quorumdrift.rebuilding import LostReplica
 from quorumdrift.relations import Relation
+from quorumdrift.resizing import project_run
 from quorumdrift.runs import Run, first_fault, play
 from quorumdrift.settling import settle_run
 from quorumdrift.states import State
@@ -115,6 +118,21 @@ class DocumentTest(DriftCase):
         goal = Trio(TierList([[0], [1, 2]]), flat, TierList([[0, 2], [1]]))
         found = [trio_explain(start, goal), trio_reaches(loosen(start), loosen(goal))]
         self.assertEqual(found, [("dealt", ((0, 1), (0, 2), (2, 1))), True])
+
+    def test_resizing(self):
+        run = project_run(State.same([1, 2, 3]), Run.of((0, 0), (0, 1)), 2)
+        self.assertEqual(run.steps(), [(0, 0)])
+
+    def test_deeds(self):
+        wanted = [("swap", 0, 1), ("rewrite", 2, (3, 1, 2)), ("settle",)]
+        self.assertEqual(parse_deeds("swap 0 1\nrewrite 2 3 1 2\nsettle"), wanted)
+        self.assert_raises(InvalidLine, {"line": 2}, parse_deeds, "swap 0 1\n")
+
+    def test_clusters(self):
+        cluster = Cluster(State.same([1, 2, 3]))
+        swaps = cluster.do_swap(1, 0)
+        found = [swaps, cluster.drift, cluster.journal(), str(cluster.state())]
+        self.assertEqual(found, [1, 1, "swap 1 0", "1 2 3 / 2 1 3 / 1 2 3"])
 
 
 class ReadmeTest(unittest.TestCase):

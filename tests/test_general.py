@@ -3,9 +3,12 @@
 import copy
 import unittest
 
+from quorumdrift.audits import Audit, extra_swaps, missing_swaps
 from quorumdrift.cachesets import CacheSet
 from quorumdrift.certificates import DealtOtherwise, NotAllowed, ReadOtherwise
+from quorumdrift.clusters import Cluster
 from quorumdrift.dealings import build, class_at, class_rank, each_home
+from quorumdrift.deeds import parse_deeds
 from quorumdrift.dependencysets import DependencySet
 from quorumdrift.dissents import dealing, dissenter, dissents
 from quorumdrift.distances import best_run, can_take, least_cost, passing, straight_run, useful_swaps
@@ -21,6 +24,8 @@ from quorumdrift.reach import check_route, explain_reach, reaches, route
 from quorumdrift.readings import Reading, read
 from quorumdrift.rebuilding import LostReplica
 from quorumdrift.relations import Relation
+from quorumdrift.reports import report
+from quorumdrift.resizing import cycles_with, insert_key, nest, parts, project_run, relabel, rotate
 from quorumdrift.runs import Run, each_state, first_fault, play, swapped_pairs
 from quorumdrift.settling import homeward, is_settled, settle, settle_length, settle_run
 from quorumdrift.shardmaps import ShardMap
@@ -30,6 +35,7 @@ from quorumdrift.threeway import ThreeWay
 from quorumdrift.tierlists import TierList
 from quorumdrift.trios import Trio
 from quorumdrift.views import as_trio, loosen, view_path
+from quorumdrift.widesets import WideSet
 from tests.helpers import DriftCase
 
 CHAIN = ([3, 1, 2], [(3, 1), (1, 2)])
@@ -126,6 +132,13 @@ class HandedInTest(DriftCase):
         calls.append(lambda: NotAllowed(1, (1, 2)).holds(state, other, movers=replicas))
         calls.append(lambda: [class_size(state, limit=10 ** 6), class_rank(state), next(each_member(state))])
         calls.append(lambda: [Freedom(state).hold((0, order)), Freedom(state).show(1, 6, 5)])
+        for action in (extra_swaps, missing_swaps):
+            calls.append(lambda action=action: action(state, other, run))
+        calls.append(lambda: [Audit(state, other).possibly(0), Audit(state, other).can_take(3)])
+        calls.append(lambda: [report(state), parts(state), rotate(state, 2), cycles_with(state, 4)])
+        calls.append(lambda: [project_run(state, run, 5), insert_key(state, 9, (0, 1, 6)), nest(state, 1, State.same([8]))])
+        calls.append(lambda: Cluster(state, movers=replicas).play_lines("settle\nadd 9 0 0 0\ndrop 1"))
+        calls.append(lambda: Cluster(state, movers=replicas).do_rewrite(0, order))
         calls.append(lambda: dissenter(state, 1, 2))
         calls.append(lambda: list(each_state(state, run)))
         calls.append(lambda: settle_run(state, replicas=replicas, picks=picks))
@@ -316,6 +329,54 @@ class HandedOutTest(DriftCase):
         self.check(lambda: as_trio(State(*orders), "tiers"), questions + [lambda trio: loosen(trio).reading()])
         self.check(lambda: State(*orders), [lambda state: view_path(state, Run.of((0, 3)), "tiers")])
 
+    def test_resized_states(self):
+        names = {1: 3, 2: 1, 3: 2, 4: 5, 5: 4, 6: 6}
+        self.check(lambda: State(*LISTS), [
+            parts,
+            lambda state: parts(state)[0].lists(),
+            lambda state: cycles_with(state, 4),
+            lambda state: project_run(state, Run.of((0, 4)), 1).steps(),
+            lambda state: insert_key(state, 9, (0, 6, 1)).lists(),
+            lambda state: relabel(state, names).lists(),
+            lambda state: rotate(state, 1).lists(),
+            lambda state: nest(state, 1, State.same([8, 7])).lists(),
+            lambda state: extra_swaps(state, state, Run.of((0, 4))),
+            lambda state: missing_swaps(state, settle(state), settle_run(state) + Run.of((2, 4))),
+        ])
+        self.assertEqual(names, {1: 3, 2: 1, 3: 2, 4: 5, 5: 4, 6: 6})
+
+    def test_wide_sets(self):
+        self.check(lambda: WideSet([1, 2, 3], [1, 3, 2], [1, 2, 3], [2, 1, 3]), [
+            WideSet.lists, WideSet.all_keys, WideSet.order, WideSet.silent_swaps,
+            lambda wide: wide.list_of(1),
+            lambda wide: wide.home_run().steps(),
+            lambda wide: wide.played(Run.of((1, 1))).lists(),
+            lambda wide: wide.route_to(wide).steps(),
+        ])
+
+    def test_audits(self):
+        self.check(lambda: Audit(State(*LISTS), settle(State(*LISTS))), [
+            Audit.moved,
+            lambda audit: audit.odd_pairs(0),
+            lambda audit: audit.possibly(0),
+            lambda audit: audit.never(0),
+        ])
+
+    def test_clusters_and_deeds(self):
+        def cluster():
+            made = Cluster.replay(State(*LISTS), "settle\nrewrite 1 3 1 2 4 6 5\nadd 9 0 0 0")
+            made.save("here")
+            return made
+
+        self.check(cluster, [
+            Cluster.history,
+            lambda made: made.state().lists(),
+            lambda made: made.saved("here").lists(),
+            lambda made: made.audit("here").moved(),
+            lambda made: made.trial("drop 9").lists(),
+        ])
+        self.check(lambda: "settle\nrewrite 1 3 1 2", [parse_deeds])
+
     def test_yielded_states_do_not_hang_together(self):
         state = State(*LISTS)
         run = Run.of((0, 4), (1, 4))
@@ -350,7 +411,7 @@ class ComparisonTest(DriftCase):
             Relation([], []), Reading([], []), State([], [], []), Run([]), [], None, "", 0, (1, 2),
             ReadOtherwise((1, 2)), DealtOtherwise((1, 2)), NotAllowed(0, (1, 2)),
             ThreeWay([], [], []), OrderList([]), ShardMap([]), DependencySet([], []), CacheSet([], [], []), TierList([]),
-            Trio(*[OrderList([])] * 3), Trio(*[TierList([])] * 3),
+            Trio(*[OrderList([])] * 3), Trio(*[TierList([])] * 3), WideSet([], [], [], []),
         ]
         for place, thing in enumerate(things):
             for other_place, other in enumerate(things):

@@ -3,10 +3,10 @@
 import inspect
 import unittest
 
-from quorumdrift import cachesets, certificates, contents, dealings, dependencysets, dissents, distances, errors
-from quorumdrift import forced, freedom, lists, members, moves, orderlists, paths, policies, reach, readings
-from quorumdrift import rebuilding, relations, runs, settling, shardmaps, states, swaps, threeway, tierlists, trios
-from quorumdrift import views
+from quorumdrift import audits, cachesets, certificates, clusters, contents, dealings, deeds, dependencysets, dissents
+from quorumdrift import distances, errors, forced, freedom, lists, members, moves, orderlists, paths, policies, reach
+from quorumdrift import readings, rebuilding, relations, reports, resizing, runs, settling, shardmaps, states, swaps
+from quorumdrift import threeway, tierlists, trios, views, widesets
 
 FUNCTIONS = {
     lists: {
@@ -92,6 +92,18 @@ FUNCTIONS = {
         "kinds_reach": ["start", "goal"],
         "loosen": ["trio"],
     },
+    resizing: {
+        "project_run": ["state", "run", "key"],
+        "insert_key": ["state", "key", "positions"],
+        "cycles_with": ["state", "key"],
+        "relabel": ["state", "names"],
+        "rotate": ["state", "by"],
+        "nest": ["outer", "key", "inner"],
+        "parts": ["state"],
+    },
+    deeds: {"deed_line": ["deed"], "parse_deeds": ["text"]},
+    audits: {"extra_swaps": ["start", "goal", "run"], "missing_swaps": ["start", "goal", "run"]},
+    reports: {"report": ["state"]},
 }
 
 # The arguments that are passed by keyword only, with their default values.
@@ -110,6 +122,8 @@ KEYWORDS = {
     paths.trio_reaches: {"movers": (0, 1, 2)},
     paths.trio_explain: {"movers": (0, 1, 2)},
     paths.trio_path: {"movers": (0, 1, 2)},
+    clusters.Cluster.__init__: {"movers": (0, 1, 2), "capacity": 100},
+    clusters.Cluster.replay: {"movers": (0, 1, 2), "capacity": 100},
 }
 
 # What each kind of contents has of its own, beside its constructor.
@@ -189,6 +203,25 @@ CLASSES = {
         "with_contents": ["replica", "contents"], "silent_changes": [], "homeward": [], "closed_home": [],
         "__eq__": None,
     },
+    widesets.WideSet: {
+        "__init__": ["orders"],
+        "list_of": ["replica"], "lists": [], "all_keys": [], "order": [], "dissenter": ["x", "y"], "silent_swaps": [],
+        "played": ["run"], "home_run": [], "comes_to": ["other"], "route_to": ["other"], "__eq__": None,
+    },
+    audits.Audit: {
+        "__init__": ["start", "goal"],
+        "moved": [], "odd_pairs": ["replica"], "possibly": ["replica"], "never": ["replica"], "shares": [],
+        "can_take": ["count"],
+    },
+    clusters.Cluster: {
+        "__init__": ["state", "movers", "capacity"], "replay": ["state", "text", "movers", "capacity"],
+        "state": [], "history": [], "journal": [], "movers": [], "change": ["option", "value"],
+        "do_swap": ["replica", "index"], "do_move": ["replica", "start", "middle", "end"],
+        "do_rewrite": ["replica", "order"], "do_settle": [], "do_become": ["state"],
+        "add_key": ["key", "positions"], "drop_key": ["key"], "undo": [], "redo": [],
+        "save": ["name"], "saved": ["name"], "restore": ["name"], "audit": ["name"],
+        "play_lines": ["text"], "trial": ["text"],
+    },
 }
 
 
@@ -215,8 +248,9 @@ class InterfaceTest(unittest.TestCase):
         for owner, methods in CLASSES.items():
             for name in methods:
                 with self.subTest(owner=owner, name=name):
-                    wanted = {"movers": (0, 1, 2)} if name == "holds" else {}
-                    self.assertEqual(by_keyword_only(getattr(owner, name)), wanted)
+                    method = getattr(owner, name)
+                    wanted = {"movers": (0, 1, 2)} if name == "holds" else KEYWORDS.get(method, {})
+                    self.assertEqual(by_keyword_only(method), wanted)
 
     def test_methods_are_defined_in_their_own_class(self):
         for owner, methods in CLASSES.items():
@@ -242,6 +276,9 @@ class InterfaceTest(unittest.TestCase):
         self.assertEqual(cachesets.CacheSet.__module__, "quorumdrift.cachesets")
         self.assertEqual(tierlists.TierList.__module__, "quorumdrift.tierlists")
         self.assertEqual(trios.Trio.__module__, "quorumdrift.trios")
+        self.assertEqual(widesets.WideSet.__module__, "quorumdrift.widesets")
+        self.assertEqual(audits.Audit.__module__, "quorumdrift.audits")
+        self.assertEqual(clusters.Cluster.__module__, "quorumdrift.clusters")
         for name in ("Policy", "PreferSide", "Backward"):
             self.assertEqual(getattr(policies, name).__module__, "quorumdrift.policies")
         for name in ("Certificate", "ReadOtherwise", "DealtOtherwise", "NotAllowed"):
@@ -256,6 +293,11 @@ class InterfaceTest(unittest.TestCase):
         self.assertIsInstance(vars(states.State)["same"], staticmethod)
         self.assertIsInstance(vars(runs.Run)["of"], classmethod)
         self.assertIsInstance(vars(runs.Run)["read"], classmethod)
+        self.assertIsInstance(vars(clusters.Cluster)["replay"], classmethod)
+        self.assertIsInstance(vars(clusters.Cluster)["drift"], property)
+        self.assertIsInstance(vars(clusters.Cluster)["capacity"], property)
+        self.assertIsNone(vars(clusters.Cluster)["drift"].fset)
+        self.assertIsNotNone(vars(clusters.Cluster)["capacity"].fset)
         self.assertTrue(inspect.isgeneratorfunction(runs.each_state))
         self.assertTrue(inspect.isgeneratorfunction(relations.Relation.each_order))
         self.assertTrue(inspect.isgeneratorfunction(readings.Reading.each_path))
