@@ -42,6 +42,7 @@ class WideSet:
     def order(self):
         """The list that has each pair as all replicas but at most one have it."""
         all_keys = self.all_keys()
+        # At most one replica stands against the others, so what two of them say holds.
         earlier = {key: [x for x in all_keys if self._words((x, key)).count(True) > 1] for key in all_keys}
         return sorted(all_keys, key=lambda key: len(earlier[key]))
 
