@@ -10,7 +10,7 @@ class Contents:
     """The keys of contents of any kind."""
 
     def __init__(self, all_keys):
-        if len(all_keys) > MOST_HELD or first_wrong_place(all_keys) is not None:
+        if not is_list_of_keys(all_keys):
             raise InvalidContents()
         self._all_keys = sorted(all_keys)
 
@@ -21,6 +21,16 @@ class Contents:
     def label(self):
         """The number of keys in words."""
         return f"{len(self._all_keys)} keys"
+
+
+def is_list_of_keys(given):
+    """True if a value of whatever kind is a list of at most 8 distinct keys."""
+    if not isinstance(given, list) or len(given) > MOST_HELD:
+        return False
+    # True and False are no keys, though Python counts them among the integers.
+    if any([isinstance(key, bool) or not isinstance(key, int) for key in given]):
+        return False
+    return first_wrong_place(given) is None
 
 
 def check_places(places, given):

@@ -7,7 +7,7 @@ from quorumdrift.cachesets import CacheSet
 from quorumdrift.errors import InvalidContents, UnknownPlace
 from tests.helpers import DriftCase
 from tests.kinds import chosen, holdings
-from tests.test_contents import WRONG_KEYS
+from tests.test_contents import NO_LISTS, WRONG_KEYS
 
 KEYS = [4, 1, 9, 6]
 BOOK = [(9, 1, 4), (6, 4, 9), (4, 9, 1)]
@@ -45,6 +45,10 @@ class CacheSetTest(DriftCase):
 
     def test_wrong_keys(self):
         for keys in WRONG_KEYS:
+            self.assert_raises(InvalidContents, {}, CacheSet, keys, [], [])
+
+    def test_keys_in_another_value_than_a_list(self):
+        for keys in NO_LISTS:
             self.assert_raises(InvalidContents, {}, CacheSet, keys, [], [])
 
     def test_wrong_keys_held(self):

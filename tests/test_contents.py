@@ -11,9 +11,16 @@ from tests.helpers import DriftCase, shuffled
 from tests.kinds import KINDS, NO_PLACES, chosen, pairs_of
 
 KEYS = [1, 4, 6, 9]
+# Lists of too many keys, of a key twice, or of what is no key.
 WRONG_KEYS = [
     list(range(9)), list(range(40)), [1, 1], [3, 4, 3], [-1], [1, 2, -1], [10000], [0, 10000, 1], [5] * 9,
     list(range(8)) + [-1], list(range(8)) + [3],
+    [True], [False], [0, 2, True], ["1"], [1, "2"], [None], [1.0], [(1,)], [[1]], [b"1", 1],
+]
+# Other values than lists: right keys and wrong ones, and no keys at all.
+NO_LISTS = [
+    (), (1,), (1, 2), (477, 656, 188, 949), (0, 9999), (1, 1), (-1,), (10000,), tuple(range(9)), ([1],),
+    {}, {1: 2, 3: 4}, {1, 2}, frozenset([1, 2]), range(3), range(9), iter([1, 2]), "", "12", b"", b"12", None, 1, True,
 ]
 
 
@@ -37,6 +44,10 @@ class BaseClassTest(DriftCase):
 
     def test_wrong_keys(self):
         for keys in WRONG_KEYS:
+            self.assert_raises(InvalidContents, {}, Contents, keys)
+
+    def test_other_values_than_lists(self):
+        for keys in NO_LISTS:
             self.assert_raises(InvalidContents, {}, Contents, keys)
 
     def test_keys_are_copied(self):

@@ -7,7 +7,7 @@ from quorumdrift.dependencysets import DependencySet
 from quorumdrift.errors import InvalidContents
 from tests.helpers import DriftCase, shuffled
 from tests.kinds import chosen, demands_of, is_order, two_keys
-from tests.test_contents import WRONG_KEYS
+from tests.test_contents import NO_LISTS, WRONG_KEYS
 
 # 1 before 2 before 3, with the pair that follows.
 CHAIN = ((1, 2), (1, 3), (2, 3))
@@ -56,6 +56,10 @@ class DependencySetTest(DriftCase):
 
     def test_wrong_keys(self):
         for keys in WRONG_KEYS:
+            self.assert_raises(InvalidContents, {}, DependencySet, keys, [])
+
+    def test_keys_in_another_value_than_a_list(self):
+        for keys in NO_LISTS:
             self.assert_raises(InvalidContents, {}, DependencySet, keys, [])
 
     def test_wrong_pairs(self):

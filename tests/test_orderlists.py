@@ -7,7 +7,7 @@ from quorumdrift.errors import InvalidContents
 from quorumdrift.orderlists import OrderList
 from tests.helpers import DriftCase, shuffled
 from tests.kinds import chosen, words_of_list
-from tests.test_contents import WRONG_KEYS
+from tests.test_contents import NO_LISTS, WRONG_KEYS
 
 # Each set of words at the three places of the keys 1, 2, 3 that is read in a circle: 1, 2, 3 and 1, 3, 2.
 CIRCLES = [[(1, 2), (2, 3)], [(1, 3)]]
@@ -30,6 +30,10 @@ class OrderListTest(DriftCase):
 
     def test_wrong_lists(self):
         for keys in WRONG_KEYS:
+            self.assert_raises(InvalidContents, {}, OrderList, keys)
+
+    def test_keys_in_another_value_than_a_list(self):
+        for keys in NO_LISTS:
             self.assert_raises(InvalidContents, {}, OrderList, keys)
 
     def test_words(self):

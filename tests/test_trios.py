@@ -210,7 +210,8 @@ class EqualTest(DriftCase):
         cases = THREES[::12] + FOURS[::12]
         for one, other in product(cases, repeat=2):
             same = one is other or (one.place, one.words) == (other.place, other.words) and one.keys == other.keys
-            books = {str(case.kind.make(case.keys, []).book()) for case in (one, other) if case.kind.owner is CacheSet}
+            caches = [case for case in (one, other) if case.kind.owner is CacheSet]
+            books = {str(case.kind.make(list(case.keys), []).book()) for case in caches}
             if (one.kind.owner, one.words, one.keys) == (other.kind.owner, other.words, other.keys) and len(books) < 2:
                 same = True
             self.assertIs(one.trio() == other.trio(), same)

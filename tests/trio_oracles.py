@@ -41,7 +41,7 @@ class Case:
         return [place for place in self.places if [place in words for words in self.words].count(True) >= 2]
 
     def conflicts(self):
-        return conflicts_of(self.kind, self.keys, self.reading())
+        return conflicts_of(self.kind, list(self.keys), self.reading())
 
     def pinned(self):
         return sorted({place for conflict in self.conflicts() for place in conflict})
